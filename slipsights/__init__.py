@@ -1,0 +1,1 @@
+"""Slipsights: robots that count steps which slip."""

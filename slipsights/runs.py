@@ -1,0 +1,194 @@
+"""Runs: what a robot does, told by the slips of its steps and the errors of its sights."""
+
+from slipsights.checks import is_cell, is_sequence, lies_within
+from slipsights.errors import InvalidRun, Mismatch
+from slipsights.plans import WAYS, Go, If, See, Stop, While, read_test, rows_through
+
+
+class Played:
+    """How far a run has come with some pairs."""
+
+    def __init__(self, ended, row, done, belief, place, trail, faults):
+        self.ended = ended
+        self.row = row
+        self.done = done
+        self.belief = belief
+        self.place = place
+        self.trail = trail
+        self.faults = faults
+
+
+class Standing:
+    """Where a run waits, or how it has ended."""
+
+    def __init__(self, ended, row, done, belief, place):
+        self.ended = ended
+        self.row = row
+        self.done = done
+        self.belief = belief
+        self.place = place
+
+
+class Course:
+    """A plan that fits a site, and where each of its rows leads."""
+
+    def __init__(self, site, plan):
+        check_match(site, plan)
+        self.site = site
+        self.plan = plan
+        self.leads = _leads_of_rows(plan.rows, 0, len(plan))
+
+    def first(self):
+        """The standing ahead of all pairs."""
+        return Standing(None, None, 0, self.plan.start, None)
+
+    def behind(self, standing, pair):
+        """The standing behind any value as the next pair, or None if it is not allowed."""
+        if standing.ended is not None or not is_cell(pair):
+            return None
+        if standing.row is None:
+            return self._begun(pair)
+        row = self.plan[standing.row]
+        if isinstance(row, Go):
+            return self._stepped(standing, row, pair)
+        return self._sighted(standing, row, pair)
+
+    def _begun(self, error):
+        if not _is_error(error, self.plan.blur):
+            return None
+        return self._arrived(0, 0, self.plan.start, _sum_of(self.plan.start, error))
+
+    def _stepped(self, standing, row, slip):
+        if not _is_slip(slip, WAYS[row.way], self.site.slips):
+            return None
+        belief = _sum_of(standing.belief, WAYS[row.way])
+        place = _sum_of(_sum_of(standing.place, WAYS[row.way]), slip)
+        if standing.done + 1 < row.steps:
+            return self._arrived(standing.row, standing.done + 1, belief, place)
+        return self._arrived(self.leads[standing.row][0], 0, belief, place)
+
+    def _sighted(self, standing, row, error):
+        belief = (standing.place[0] - error[0], standing.place[1] - error[1])
+        if not _is_error(error, self.site.mark_of(row.mark).blur) or not self.site.in_yard(belief):
+            return None
+        return self._gone_on(self.leads[standing.row][0], 0, belief, standing.place)
+
+    def _arrived(self, at, done, belief, place):
+        """The standing of a run that has just come to a place, ahead of the row with this number."""
+        if self.site.is_barred(place):
+            return Standing("barred", None, 0, belief, place)
+        return self._gone_on(at, done, belief, place)
+
+    def _gone_on(self, at, done, belief, place):
+        """Where a run ahead of the row with this number next needs a pair, or how it ends without one."""
+        while at < len(self.plan):
+            row = self.plan[at]
+            if isinstance(row, Stop):
+                return Standing(row.room, None, 0, belief, place)
+            if isinstance(row, Go):
+                return self._ahead_of_step(at, done, belief, place)
+            if isinstance(row, See) and place in self.site.mark_of(row.mark):
+                return Standing(None, at, 0, belief, place)
+            at = self.leads[at][0 if _goes_in(row, belief) else 1]
+        return Standing("end", None, 0, belief, place)
+
+    def _ahead_of_step(self, at, done, belief, place):
+        if not self.site.in_yard(_sum_of(belief, WAYS[self.plan[at].way])):
+            return Standing("halted", None, 0, belief, place)
+        return Standing(None, at, done, belief, place)
+
+
+def play(site, plan, pairs):
+    """How far a run comes with these pairs."""
+    course = Course(site, plan)
+    if not is_sequence(pairs):
+        raise InvalidRun(0)
+    standing = course.first()
+    trail = []
+    for at, pair in enumerate(pairs):
+        standing = course.behind(standing, pair)
+        if standing is None:
+            raise InvalidRun(at)
+        trail.append((standing.belief, standing.place))
+    faults = faults_of(site, standing)
+    return Played(
+        standing.ended, standing.row, standing.done, standing.belief, standing.place, tuple(trail), faults,
+    )
+
+
+def check_match(site, plan):
+    """Refuse a plan that begins outside of the yard or tells what the site does not have."""
+    if not site.in_yard(plan.start):
+        raise Mismatch("start")
+    rooms = [room.name for room in site.rooms]
+    marks = [mark.name for mark in site.marks]
+    for row in rows_through(plan.rows):
+        if isinstance(row, Stop) and row.room not in rooms:
+            raise Mismatch(row.room)
+        if isinstance(row, See) and row.mark not in marks:
+            raise Mismatch(row.mark)
+
+
+def holds(test, belief):
+    """Whether a test holds for a belief."""
+    direction, below, number = read_test(test)
+    return (belief[direction] < number) == below
+
+
+def slip_bounds(step, slips):
+    """The least and the greatest slip in a direction in which a step leads by -1, 0 or 1."""
+    back, ahead, side = slips
+    if step == 0:
+        return (-side, side)
+    return (-back, ahead) if step == 1 else (-ahead, back)
+
+
+def faults_of(site, standing):
+    """The faults with which a run has ended here."""
+    if standing.ended in ("barred", "halted"):
+        return (standing.ended,)
+    if standing.ended in (None, "end") or standing.place in site.room_of(standing.ended):
+        return ()
+    return ("astray",)
+
+
+def _goes_in(row, belief):
+    """Whether a run goes on with the rows of a block; a `See` is asked only if its landmark is missed."""
+    return isinstance(row, (If, While)) and holds(row.test, belief)
+
+
+def _sum_of(cell, pair):
+    return (cell[0] + pair[0], cell[1] + pair[1])
+
+
+def _is_error(pair, blur):
+    return lies_within(pair, (-blur, -blur), (blur, blur))
+
+
+def _is_slip(pair, way, slips):
+    across = slip_bounds(way[0], slips)
+    upward = slip_bounds(way[1], slips)
+    return lies_within(pair, (across[0], upward[0]), (across[1], upward[1]))
+
+
+def _leads_of_rows(rows, at, behind):
+    """Where these rows and those in them lead: the first has the number `at`, the last leads `behind`."""
+    leads = []
+    for k, row in enumerate(rows):
+        after = at + len(rows_through([row]))
+        leads.extend(_leads_of_row(row, at, behind if k == len(rows) - 1 else after))
+        at = after
+    return leads
+
+
+def _leads_of_row(row, at, after):
+    """The same for one row: where it leads with its rows (or steps) and where with its others."""
+    entries = []
+    inner = []
+    first = at + 1
+    for block in row.blocks():
+        entries.append(first if len(block) > 0 else after)
+        inner.extend(_leads_of_rows(block, first, at if isinstance(row, While) else after))
+        first += len(rows_through(block))
+    entries = entries + [after, after]
+    return [(entries[0], entries[1])] + inner
