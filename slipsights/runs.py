@@ -46,40 +46,65 @@ class Course:
         """The standing behind any value as the next pair, or None if it is not allowed."""
         if standing.ended is not None or not is_cell(pair):
             return None
+        low, high = self._pair_range(standing)
+        if not lies_within(pair, low, high):
+            return None
         if standing.row is None:
             return self._begun(pair)
         row = self.plan[standing.row]
         if isinstance(row, Go):
             return self._stepped(standing, row, pair)
-        return self._sighted(standing, row, pair)
+        return self._sighted(standing, pair)
+
+    def after(self, at, done):
+        """Where a run is behind its pair at a position: ahead of which row, and how many steps of it are done."""
+        row = self.plan[at]
+        if isinstance(row, Go) and done + 1 < row.steps:
+            return (at, done + 1)
+        return (self.leads[at][0], 0)
+
+    def pairs_at(self, standing):
+        """The list of the pairs that may come next; of those for a sight, some may not be allowed."""
+        low, high = self._pair_range(standing)
+        return _pairs_between(low, high)
+
+    def pairs_of(self, row):
+        """The same for all standings at a row where runs wait."""
+        low, high = self._pair_range_of(row)
+        return _pairs_between(low, high)
+
+    def _pair_range(self, standing):
+        if standing.row is None:
+            return _error_range(self.plan.blur)
+        return self._pair_range_of(self.plan[standing.row])
+
+    def _pair_range_of(self, row):
+        if isinstance(row, Go):
+            return slip_range(WAYS[row.way], self.site.slips)
+        return _error_range(self.site.mark_of(row.mark).blur)
 
     def _begun(self, error):
-        if not _is_error(error, self.plan.blur):
-            return None
         return self._arrived(0, 0, self.plan.start, _sum_of(self.plan.start, error))
 
     def _stepped(self, standing, row, slip):
-        if not _is_slip(slip, WAYS[row.way], self.site.slips):
-            return None
         belief = _sum_of(standing.belief, WAYS[row.way])
         place = _sum_of(_sum_of(standing.place, WAYS[row.way]), slip)
-        if standing.done + 1 < row.steps:
-            return self._arrived(standing.row, standing.done + 1, belief, place)
-        return self._arrived(self.leads[standing.row][0], 0, belief, place)
+        at, done = self.after(standing.row, standing.done)
+        return self._arrived(at, done, belief, place)
 
-    def _sighted(self, standing, row, error):
+    def _sighted(self, standing, error):
         belief = (standing.place[0] - error[0], standing.place[1] - error[1])
-        if not _is_error(error, self.site.mark_of(row.mark).blur) or not self.site.in_yard(belief):
+        if not self.site.in_yard(belief):
             return None
-        return self._gone_on(self.leads[standing.row][0], 0, belief, standing.place)
+        return self.gone_on(self.leads[standing.row][0], 0, belief, standing.place)
 
     def _arrived(self, at, done, belief, place):
         """The standing of a run that has just come to a place, ahead of the row with this number."""
         if self.site.is_barred(place):
             return Standing("barred", None, 0, belief, place)
-        return self._gone_on(at, done, belief, place)
+        return self.gone_on(at, done, belief, place)
 
-    def _gone_on(self, at, done, belief, place):
+    def gone_on(self, at, done, belief, place):
         """Where a run ahead of the row with this number next needs a pair, or how it ends without one."""
         while at < len(self.plan):
             row = self.plan[at]
@@ -135,12 +160,11 @@ def holds(test, belief):
     return (belief[direction] < number) == below
 
 
-def slip_bounds(step, slips):
-    """The least and the greatest slip in a direction in which a step leads by -1, 0 or 1."""
-    back, ahead, side = slips
-    if step == 0:
-        return (-side, side)
-    return (-back, ahead) if step == 1 else (-ahead, back)
+def slip_range(way, slips):
+    """The pair of the least slips of a step in a way, and that of the greatest ones."""
+    across = _slip_bounds(way[0], slips)
+    upward = _slip_bounds(way[1], slips)
+    return ((across[0], upward[0]), (across[1], upward[1]))
 
 
 def faults_of(site, standing):
@@ -161,14 +185,20 @@ def _sum_of(cell, pair):
     return (cell[0] + pair[0], cell[1] + pair[1])
 
 
-def _is_error(pair, blur):
-    return lies_within(pair, (-blur, -blur), (blur, blur))
+def _pairs_between(low, high):
+    return [(x, y) for x in range(low[0], high[0] + 1) for y in range(low[1], high[1] + 1)]
 
 
-def _is_slip(pair, way, slips):
-    across = slip_bounds(way[0], slips)
-    upward = slip_bounds(way[1], slips)
-    return lies_within(pair, (across[0], upward[0]), (across[1], upward[1]))
+def _error_range(blur):
+    return ((-blur, -blur), (blur, blur))
+
+
+def _slip_bounds(step, slips):
+    """The least and the greatest slip in a direction in which a step leads by -1, 0 or 1."""
+    back, ahead, side = slips
+    if step == 0:
+        return (-side, side)
+    return (-back, ahead) if step == 1 else (-ahead, back)
 
 
 def _leads_of_rows(rows, at, behind):

@@ -1,8 +1,10 @@
 """Values that several tests pass where the document says "any value"."""
 
+from slipsights.cells import Cells
 from slipsights.plans import Go, If, Plan, See, Stop, While
 from slipsights.runs import play
 from slipsights.sites import Mark, Room, Site
+from slipsights.spans import Span
 
 RESERVED = [
     "start", "go", "if", "else", "while", "see", "stop", "end",
@@ -29,6 +31,11 @@ def deep(value, depth=7):
     return value
 
 
+def is_pair(value):
+    """Whether a value is a tuple of two integers, told in another way than the program does."""
+    return type(value) is tuple and [type(number) for number in value] == [int, int]
+
+
 def objects():
     """One object of each class of the package that a caller can have."""
     site = Site((2, 2), (0, 0, 0), [Room("hall", (0, 0), (1, 1))], [Mark("lamp", (0, 0), (1, 1), 0)])
@@ -36,7 +43,8 @@ def objects():
     plan = Plan((0, 0), 0, [go])
     return [
         site, site.rooms[0], site.marks[0], go, If("x < 5", []), While("x < 5", [go]), See("lamp", []),
-        Stop("hall"), plan, play(site, plan, []),
+        Stop("hall"), plan, play(site, plan, []), Span((0, 1), (0, 1), (0, 1)), Span((1, 0), (0, 1), (0, 1)),
+        Cells(), Cells([(0, 0)]),
     ]
 
 

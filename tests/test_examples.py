@@ -1,12 +1,16 @@
-"""The examples at the end of sections 5 and 6, with the site and the plans of section 1."""
+"""The examples of the document for the modules that there are, with the site and the plans of section 1."""
 
 import doctest
 import pathlib
 import unittest
 
+from slipsights.cells import ends
+from slipsights.certificates import certificate, certificate_holds
+from slipsights.deciding import longest, never, shortest
 from slipsights.plans import Plan
 from slipsights.runs import play
 from slipsights.sites import Site
+from slipsights.spans import Span
 
 
 class TestExamples(unittest.TestCase):
@@ -16,6 +20,16 @@ class TestExamples(unittest.TestCase):
         self.seeing = Plan.read("start 0 0 0\nwhile x < 4\ngo east 1\nsee lamp\nend\nend\nstop goal")
 
     def test_section_1(self):
+        site, blind, seeing = self.site, self.blind, self.seeing
+        self.assertEqual(
+            (never(site, blind, "barred"), shortest(site, blind, "barred"), never(site, blind, "astray")),
+            (False, ((0, 0), (1, 0), (1, 0), (1, 0), (1, 0)), True),
+        )
+        self.assertEqual(
+            (never(site, seeing, "barred"), never(site, seeing, "astray"), longest(site, seeing)), (True, True, 7),
+        )
+
+    def test_runs_of_section_1(self):
         played = play(self.site, self.blind, ((0, 0), (1, 0), (1, 0), (1, 0), (1, 0)))
         self.assertEqual((played.ended, played.place, played.faults), ("barred", (8, 0), ("barred",)))
         self.assertEqual(play(self.site, self.seeing, ((0, 0), (1, 0), (1, 0))).row, 2)
@@ -35,9 +49,29 @@ class TestExamples(unittest.TestCase):
             ((((0, 0), (0, 0)), ((1, 0), (2, 0)), ((2, 0), (4, 0)), ((4, 0), (4, 0))), "goal", 1),
         )
 
+    def test_section_7(self):
+        span = Span((0, 0), (-2, 2), (-9, 9)).sighted(-9, 9, 1)
+        self.assertEqual(
+            (span.belief, span.error, span.places_at(3), span.places_at(0), span.total, span.stepped(1, 0, 1).place),
+            ((-3, 3), (-1, 1), (2, 2), (-1, 1), 15, (-1, 4)),
+        )
+
+    def test_section_9(self):
+        site, blind, seeing = self.site, self.blind, self.seeing
+        self.assertEqual(
+            (str(ends(site, blind, "goal")), str(ends(site, seeing, "goal")), len(ends(site, seeing, "barred"))),
+            ("4.0 5.0 6.0 7.0", "4.0 5.0", 0),
+        )
+
     def test_section_10(self):
-        plan = Plan.read("start 0 0 0\ngo east 2")
-        self.assertEqual(play(self.site, plan, [(0, 0), (1, 0)]).done, 1)
+        flat, east = ((0, 0), (0, 0), (0, 0)), Plan.read("start 0 0 0\ngo east 2")
+        paper = ((0, 0, flat, flat), (0, 1, ((1, 1), (1, 2), (0, 1)), flat))
+        self.assertEqual(
+            (certificate_holds(self.site, east, "barred", paper),
+             certificate_holds(self.site, east, "barred", paper[:1]), certificate(self.site, self.blind, "barred")),
+            (True, False, None),
+        )
+        self.assertEqual(play(self.site, east, [(0, 0), (1, 0)]).done, 1)
 
     def test_readme(self):
         readme = pathlib.Path(__file__).parent.parent / "README.md"

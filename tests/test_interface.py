@@ -6,7 +6,7 @@ import pathlib
 import unittest
 
 import slipsights
-from slipsights import errors, plans, runs, sites
+from slipsights import cells, certificates, deciding, errors, plans, runs, sites, spans
 
 CLASSES = {
     sites.Room: ("name low high barred", "__contains__ __eq__"),
@@ -18,14 +18,33 @@ CLASSES = {
     plans.See: ("mark rows others", "__eq__ __str__"),
     plans.Stop: ("room", "__eq__ __str__"),
     plans.Plan: ("start blur rows", "read without __len__ __getitem__ __eq__ __str__"),
+    spans.Span: (
+        "belief place error", "total stepped sighted less places_at __contains__ __bool__ __and__ __le__ __lt__ __ge__ "
+        "__gt__ __eq__",
+    ),
+    cells.Cells: (
+        "cells", "members grown __contains__ __len__ __bool__ __and__ __or__ __sub__ __xor__ __le__ __lt__ __ge__ "
+        "__gt__ __eq__ __str__",
+    ),
 }
+PROPERTIES = {spans.Span: ["total"], cells.Cells: ["members"]}
 DEFAULTS = {
     sites.Room: {"barred": False}, sites.Site: {"rooms": (), "marks": ()}, plans.If: {"others": ()},
-    plans.See: {"others": ()}, plans.Plan: {"rows": ()},
+    plans.See: {"others": ()}, plans.Plan: {"rows": ()}, cells.Cells: {"cells": ()},
 }
 CALLS = {
     sites.Site.read: "text", plans.Plan.read: "text", runs.play: "site plan pairs", sites.Site.room_of: "self name",
     sites.Site.mark_of: "self name", sites.Site.is_barred: "self cell", plans.Plan.without: "self at",
+    spans.Span.stepped: "self by low high", spans.Span.sighted: "self low high blur", spans.Span.less: "self other",
+    spans.Span.places_at: "self number", cells.Cells.grown: "self low high", deciding.never: "site plan fault",
+    deciding.shortest: "site plan fault", deciding.longest: "site plan", deciding.drift: "site plan at",
+    deciding.endless: "site plan", cells.ends: "site plan word", cells.stands: "site plan at",
+    certificates.certificate: "site plan fault", certificates.certificate_holds: "site plan fault value",
+}
+MODULES = {
+    sites: "Room Mark Site", plans: "Row Go If While See Stop Plan", runs: "Played play", spans: "Span",
+    deciding: "never shortest longest drift endless", cells: "Cells ends stands",
+    certificates: "certificate certificate_holds",
 }
 
 
@@ -49,13 +68,9 @@ class TestInterface(unittest.TestCase):
     def test_defined_in_their_files(self):
         for kind in list(CLASSES) + [plans.Row, runs.Played, runs.play]:
             self.assertIs(getattr(inspect.getmodule(kind), kind.__name__), kind)
-        for module, names in {
-            "sites": ["Room", "Mark", "Site"], "plans": ["Row", "Go", "If", "While", "See", "Stop", "Plan"],
-            "runs": ["Played", "play"],
-        }.items():
-            for name in names:
-                owner = {"sites": sites, "plans": plans, "runs": runs}[module]
-                self.assertEqual(getattr(owner, name).__module__, f"slipsights.{module}")
+        for module, names in MODULES.items():
+            for name in names.split(" "):
+                self.assertEqual(getattr(module, name).__module__, module.__name__)
         for name in dir(errors):
             if not name.startswith("_"):
                 self.assertEqual(getattr(errors, name).__module__, "slipsights.errors")
@@ -66,14 +81,20 @@ class TestInterface(unittest.TestCase):
         plan = plans.Plan((0, 0), 0, [go])
         made = [
             site, site.rooms[0], site.marks[0], go, plans.If("x < 1", []), plans.While("x < 1", [go]),
-            plans.See("a", []), plans.Stop("a"), plan,
+            plans.See("a", []), plans.Stop("a"), plan, spans.Span((0, 0), (0, 0), (0, 0)),
+            spans.Span((1, 0), (0, 0), (0, 0)),
         ]
-        self.assertEqual({type(one) for one in made}, set(CLASSES))
+        self.assertEqual({type(one) for one in made}, set(CLASSES) - {cells.Cells})
         for one in made:
             for name in CLASSES[type(one)][0].split(" "):
                 self.assertIn(name, vars(one))
         for name in "ended row done belief place trail faults".split(" "):
             self.assertIn(name, vars(runs.play(site, plan, [])))
+
+    def test_properties(self):
+        for kind, names in PROPERTIES.items():
+            for name in names:
+                self.assertIsInstance(vars(kind)[name], property)
 
     def test_the_package_itself_is_empty(self):
         tree = ast.parse(pathlib.Path(slipsights.__file__).read_text())

@@ -39,6 +39,14 @@ BARRED_NODES = (
 )
 
 
+METHODS = set(
+    "append clear copy count endswith extend find get index insert isalnum isalpha isdigit islower isspace isupper "
+    "items join keys ljust lower lstrip partition pop remove replace reverse rfind rjust rpartition rsplit rstrip "
+    "setdefault split splitlines startswith strip update upper values zfill bit_length removeprefix removesuffix".split()
+)
+AT_ONCE = set("list tuple dict sorted sum any all enumerate zip".split())
+
+
 def files():
     return sorted(FOLDER.rglob("*.py"))
 
@@ -47,6 +55,21 @@ def nodes():
     for path in files():
         for node in ast.walk(ast.parse(path.read_text())):
             yield path.name, node
+
+
+def nodes_with_parents():
+    for path in files():
+        tree = ast.parse(path.read_text())
+        for parent in ast.walk(tree):
+            for node in ast.iter_child_nodes(parent):
+                yield (path.name, getattr(node, "lineno", None)), node, parent
+
+
+def called(node):
+    """The name of the function or method that a node calls, or None."""
+    if not isinstance(node, ast.Call):
+        return None
+    return node.func.attr if isinstance(node.func, ast.Attribute) else getattr(node.func, "id", None)
 
 
 class TestFiles(unittest.TestCase):
@@ -179,6 +202,55 @@ class TestCode(unittest.TestCase):
                     self.assertIn(one.id, ("property", "classmethod", "staticmethod"), name)
                 if node.name.startswith("__"):
                     self.assertIn(node.name.strip("_"), DOUBLE_UNDERSCORE, name)
+
+    def test_l5_sorted_beside_an_order(self):
+        # Spans and cells are ordered as sets are, so nothing is sorted but what surely is plain.
+        for place, node, _ in nodes_with_parents():
+            self.assertNotIn(called(node), ("min", "max", "sort"), place)
+            if called(node) == "sorted":
+                self.assertEqual((called(node.args[0]), node.keywords), ("set", []), place)
+            if called(node) == "reversed":
+                self.assertIn(called(node.args[0]), ("list", "tuple", "sorted", "range"), place)
+
+    def test_l5_truth_of_objects(self):
+        for name, node in nodes():
+            if isinstance(node, ast.FunctionDef) and node.name == "__bool__":
+                value = node.body[-1].value
+                is_plain = isinstance(value, ast.Compare) and isinstance(value.ops[0], (ast.Is, ast.IsNot))
+                self.assertTrue(called(value) == "bool" or is_plain, name)
+
+    def test_l5_operators_change_nothing(self):
+        for name, node in nodes():
+            if isinstance(node, ast.FunctionDef) and node.name.startswith("__") and node.name != "__init__":
+                for inner in ast.walk(node):
+                    is_stored = isinstance(getattr(inner, "ctx", None), (ast.Store, ast.Del))
+                    self.assertFalse(is_stored and not isinstance(inner, (ast.Name, ast.Tuple)), (name, node.name))
+                    self.assertNotIsInstance(inner, ast.AugAssign, (name, node.name))
+
+    def test_l7_stars_in_calls(self):
+        for place, node, parent in nodes_with_parents():
+            if isinstance(node, ast.Starred) and isinstance(parent, ast.Call):
+                self.assertIsInstance(node.value, (ast.Name, ast.Attribute), place)
+                self.assertIs(parent.args[-1], node, place)
+
+    def test_l23_iterated_at_once(self):
+        for place, node, parent in nodes_with_parents():
+            if called(node) in ("zip", "enumerate", "reversed", "range", "items", "keys", "values"):
+                is_head = isinstance(parent, (ast.For, ast.comprehension)) and parent.iter is node
+                is_argument = called(parent) in AT_ONCE and node in parent.args
+                is_row = called(node) == "range" and called(parent) == "reversed"
+                self.assertTrue(is_head or is_argument or is_row, place)
+
+    def test_l24_sets(self):
+        for place, node, parent in nodes_with_parents():
+            if called(node) in ("set", "frozenset") or isinstance(node, ast.SetComp):
+                self.assertIn(called(parent), ("sorted", "len"), place)
+
+    def test_l25_methods(self):
+        own = {node.name for _, node in nodes() if isinstance(node, ast.FunctionDef)}
+        for name, node in nodes():
+            if isinstance(node, ast.Call) and isinstance(node.func, ast.Attribute):
+                self.assertIn(node.func.attr, METHODS | own, (name, node.lineno))
 
     def test_l18_methods_and_attributes(self):
         methods, attributes = set(), set()
