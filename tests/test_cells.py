@@ -1,5 +1,6 @@
 """Sets of cells and the places where runs end and wait, points [17] and [18]."""
 
+import operator
 import random
 import unittest
 
@@ -116,6 +117,14 @@ class TestSets(CellsCase):
                 if not isinstance(value, Cells):
                     self.assertIs(cells == value, False)
                     self.assertIs(value == cells, False)
+
+    def test_signs_with_another_class(self):
+        signs = (operator.and_, operator.or_, operator.sub, operator.xor, operator.le, operator.lt, operator.ge, operator.gt)
+        for cells in (Cells(), Cells([(0, 0)])):
+            for value in (None, 5, "", (0, 0), [(0, 0)], ((0, 0),)):
+                for sign in signs:
+                    self.assertRaises(TypeError, sign, cells, value)
+                    self.assertRaises(TypeError, sign, value, cells)
 
     def test_not_iterable(self):
         for cells in (Cells(), Cells([(0, 0)])):

@@ -161,6 +161,16 @@ class TestSteps(CertificateCase):
         self.fails(self.site, self.rows, "barred", *self.paper, (0, 1, at(3, -2), at(1)))
         self.fails(self.site, self.rows, "barred", *self.paper, (0, 1, at(3, 3), at(1, 3)))
 
+    def test_positions_that_are_none(self):
+        # From each of them all would go well.
+        for row, done in [(0, 2), (0, 3), (0, -1), (0, BIG), (1, 0), (2, 0), (-1, 0), (-1, 1), (BIG, 0)]:
+            self.fails(self.site, self.rows, "barred", *self.paper, (row, done, at(0), at(0)))
+        rows = "start 0 0 0 ; if x < 1 ; end ; see sun ; end ; stop goal"
+        site = site_of("yard 8 3 ; slip 0 1 0 ; room goal 0 0 7 2 ; mark sun 0 0 7 2 0")
+        self.holds(site, rows, "astray", (1, 0, at(0), at(0)))
+        for row, done in [(0, 0), (1, 1), (1, -1), (2, 0), (3, 0), (-2, 0)]:
+            self.fails(site, rows, "astray", (1, 0, at(0), at(0)), (row, done, at(0), at(0)))
+
     def test_entries_far_away(self):
         for far in (9, 99, BIG, -BIG):
             # The step is not done, as the belief would leave the yard.
@@ -360,7 +370,7 @@ class TestWrongValues(CertificateCase):
 
     def test_positions_that_are_none(self):
         for row, done in [
-            (-1, 0), (-5, 0), (5, 0), (99, 0), (BIG, 0), (0, 2), (0, -1), (0, 9), (0, BIG), (1, 1), (1, -1), (1, 9),
+            (-1, 0), (-4, 0), (4, 0), (5, 0), (BIG, 0), (0, 2), (0, -1), (0, 9), (0, BIG), (1, 1), (1, -1), (1, 9),
             (2, 0), (3, 0),
         ]:
             self.fails(self.site, self.rows, "barred", *self.paper, (row, done, at(0), at(0)))

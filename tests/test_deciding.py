@@ -112,6 +112,16 @@ class TestFaults(DecidingCase):
         self.comes(site, rows, "barred", 4)
         self.comes(site, rows, "halted", 3)
 
+    def test_back_through_several_sights(self):
+        site = site_of("yard 9 5 ; slip 0 0 0 ; room goal 0 0 0 0 ; mark dull 0 0 8 4 2 ; mark sharp 0 0 8 4 0")
+        # The last belief cannot come from the sharp landmark, though its runs wait at the same places.
+        self.comes(
+            site, "start 4 2 0 ; see dull ; if y < 2 ; see sharp ; end ; else ; see dull ; end ; end ; "
+            "if x < 3 ; go north 1 ; stop goal ; end ; end", "astray", 4,
+        )
+        self.comes(site, "start 4 2 1 ; see sharp ; see sharp ; if x >= 5 ; stop goal ; end ; end ; end", "astray", 3)
+        self.comes(site, "start 4 2 1 ; see sharp ; see dull ; if x >= 7 ; stop goal ; end ; end ; end", "astray", 3)
+
     def test_start_barred_in_part(self):
         rows = "start 4 3 1 ; go north 1 ; stop goal"
         self.comes(self.site, rows, "barred", 1)
@@ -170,6 +180,21 @@ class TestSights(DecidingCase):
         rows = "start 1 1 1 ; see sun ; see sun ; end ; else ; go west 2 ; go south 1 ; end"
         self.assertEqual(drift(site, plan_of(rows), 2), ((1, 1), (-1, 1)))
         self.comes(site, "start 1 1 1 ; see sun ; else ; go west 2 ; end", "halted", 2)
+
+
+    def test_marks_and_rooms_outside_of_the_yard(self):
+        outside = [(x, y) for x in range(-5, 9) for y in range(-5, 9) if not (0 <= x < 3 and 0 <= y < 3)]
+        for x, y in outside:
+            site = site_of(
+                f"yard 3 3 ; slip 0 0 0 ; room goal {x} {y} {x} {y} ; barred pit {x} {y} {x} {y} ; mark sun {x} {y} {x} {y} 0"
+            )
+            self.never_comes(site, "start 1 1 1 ; see sun ; go east 9 ; end", *FAULTS)
+            self.never_comes(site, "start 1 1 1 ; if x < 0 ; stop goal ; end", *FAULTS)
+            self.comes(site, "start 1 1 0 ; stop goal", "astray", 1)
+        for low, high in [((-9, 3), (9, 9)), ((-9, -9), (9, -1)), ((3, -9), (9, 9)), ((-9, -9), (-1, 9))]:
+            box = f"{low[0]} {low[1]} {high[0]} {high[1]}"
+            site = site_of(f"yard 3 3 ; slip 0 0 0 ; barred pit {box} ; mark sun {box} 3")
+            self.never_comes(site, "start 1 1 1 ; see sun ; go east 9 ; end", *FAULTS)
 
 
 class TestLongest(DecidingCase):

@@ -1,5 +1,6 @@
 """Spans, points [13] and [14], compared with plain sets of pairs."""
 
+import operator
 import random
 import unittest
 
@@ -193,6 +194,13 @@ class TestSets(SpanCase):
         for span in (Span((0, 1), (0, 1), (0, 1)), EMPTY[0]):
             for use in (iter, list, tuple, sorted, set):
                 self.assertRaises(TypeError, use, span)
+
+    def test_signs_with_another_class(self):
+        for span in (Span((0, 1), (0, 1), (0, 1)), EMPTY[0]):
+            for value in (None, 5, "", (0, 0), [span], {(0, 0)}):
+                for sign in (operator.and_, operator.le, operator.lt, operator.ge, operator.gt):
+                    self.assertRaises(TypeError, sign, span, value)
+                    self.assertRaises(TypeError, sign, value, span)
 
     def test_less(self):
         for (p, first), (q, second) in zip(drawn(500, 6), drawn(500, 7)):
