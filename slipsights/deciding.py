@@ -5,13 +5,13 @@ from slipsights.errors import NoRow
 from slipsights.graphs import Graph
 from slipsights.runs import Course
 from slipsights.traces import first_run
-from slipsights.waves import explored
+from slipsights.waves import explored, need_never_end
 
 
 def never(site, plan, fault):
     """Whether no run has the fault."""
     if fault == "endless":
-        return endless(site, plan) is None
+        return not need_never_end(explored(Course(site, plan)))
     return fault not in explored(Course(site, plan), fault).faulty
 
 

@@ -71,6 +71,8 @@ class Ground:
         for room in site.rooms:
             if room.barred:
                 self.free &= ~self.rooms[room.name]
+        x, y = plan.start
+        self.start = self.grid.rectangle((x - plan.blur, y - plan.blur), (x + plan.blur, y + plan.blur))
         self.steps = {way: self._step_of(WAYS[way], site.slips) for way in WAYS}
 
     def _step_of(self, way, slips):

@@ -2,7 +2,7 @@
 
 from slipsights.checks import is_cell, is_sequence, lies_within
 from slipsights.errors import InvalidRun, Mismatch
-from slipsights.plans import WAYS, Go, If, See, Stop, While, read_test, rows_through
+from slipsights.plans import WAYS, Go, See, Stop, While, read_test, rows_through
 
 
 class Played:
@@ -106,16 +106,30 @@ class Course:
 
     def gone_on(self, at, done, belief, place):
         """Where a run ahead of the row with this number next needs a pair, or how it ends without one."""
+        standing = self.gone_to_deed(at, done, belief, place)
+        while self._misses(standing):
+            standing = self.gone_to_deed(self.leads[standing.row][1], 0, belief, place)
+        return standing
+
+    def gone_to_deed(self, at, done, belief, place):
+        """Where a run ahead of the row with this number next has a step to do or a landmark to look for, seen or
+        not, or how it ends without one."""
         while at < len(self.plan):
             row = self.plan[at]
             if isinstance(row, Stop):
                 return Standing(row.room, None, 0, belief, place)
             if isinstance(row, Go):
                 return self._ahead_of_step(at, done, belief, place)
-            if isinstance(row, See) and place in self.site.mark_of(row.mark):
+            if isinstance(row, See):
                 return Standing(None, at, 0, belief, place)
-            at = self.leads[at][0 if _goes_in(row, belief) else 1]
+            at = self.leads[at][0 if holds(row.test, belief) else 1]
         return Standing("end", None, 0, belief, place)
+
+    def _misses(self, standing):
+        if standing.row is None:
+            return False
+        row = self.plan[standing.row]
+        return isinstance(row, See) and standing.place not in self.site.mark_of(row.mark)
 
     def _ahead_of_step(self, at, done, belief, place):
         if not self.site.in_yard(_sum_of(belief, WAYS[self.plan[at].way])):
@@ -174,11 +188,6 @@ def faults_of(site, standing):
     if standing.ended in (None, "end") or standing.place in site.room_of(standing.ended):
         return ()
     return ("astray",)
-
-
-def _goes_in(row, belief):
-    """Whether a run goes on with the rows of a block; a `See` is asked only if its landmark is missed."""
-    return isinstance(row, (If, While)) and holds(row.test, belief)
 
 
 def _sum_of(cell, pair):

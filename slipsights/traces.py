@@ -8,6 +8,7 @@ from slipsights.waves import Waves
 def first_run(course, fault):
     """Some run with the fewest pairs that has the fault, as a tuple of pairs, or None."""
     waves = Waves(course)
+    waves.begin()
     past = []
     wave = waves.take()
     while len(wave) > 0 and fault not in waves.faulty:

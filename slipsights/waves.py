@@ -24,7 +24,14 @@ class Waves:
         self._looked = {}
         self._rows = rows_through(course.plan.rows)
         self._tests = [_test_of(row) for row in self._rows]
-        self._begin(course.plan)
+
+    def begin(self):
+        """Have all runs at the start."""
+        self._arrive(0, 0, self.course.plan.start, self.ground.start)
+
+    def begin_at(self, at, done, belief, places):
+        """Have the runs that have come ahead of a row with a belief, and are at some free places."""
+        self._go_on(at, done, belief, places)
 
     def take(self):
         """The wave that has come, behind which the next one begins."""
@@ -41,12 +48,6 @@ class Waves:
                 self._step(position, row, standings)
             else:
                 self._look(position[0], row, standings)
-
-    def _begin(self, plan):
-        x, y = plan.start
-        low = (x - plan.blur, y - plan.blur)
-        places = self.ground.grid.rectangle(low, (x + plan.blur, y + plan.blur))
-        self._arrive(0, 0, plan.start, places)
 
     def _step(self, position, row, standings):
         at, done = self.course.after(position[0], position[1])
@@ -140,11 +141,38 @@ class Waves:
 def explored(course, fault=None):
     """The waves of all runs, or, if there is such a fault, those until it comes first."""
     waves = Waves(course)
+    waves.begin()
+    _spread_all(waves, fault)
+    return waves
+
+
+def explored_from(course, at, done, belief, places, fault):
+    """The same for the runs that have come ahead of a row with a belief, and are at some free places."""
+    waves = Waves(course)
+    waves.begin_at(at, done, belief, places)
+    _spread_all(waves, fault)
+    return waves
+
+
+def need_never_end(waves):
+    """Whether some of the runs that have been explored need never end."""
+    left = waves.reached
+    while len(left) > 0:
+        # Where runs wait behind one pair more is a part of where they waited ahead of it. If it is all of that,
+        # each standing has one in it from which a pair leads to it, so some standing comes twice in a run.
+        further = Waves(waves.course)
+        further.spread(left)
+        if further.reached == left:
+            return True
+        left = further.reached
+    return False
+
+
+def _spread_all(waves, fault):
     wave = waves.take()
     while len(wave) > 0 and fault not in waves.faulty:
         waves.spread(wave)
         wave = waves.take()
-    return waves
 
 
 def _test_of(row):
