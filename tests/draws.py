@@ -6,8 +6,8 @@ from slipsights.sites import Mark, Room, Site
 WAYS = ["east", "north", "west", "south"]
 
 
-def drawn_site(draw, most=5, blurs=(0, 0, 1)):
-    """A site with rooms `a`, `b`, `c` and landmarks `l`, `m`; some reach out of the yard."""
+def drawn_site(draw, most=5, blurs=(0, 0, 1), names="lm"):
+    """A site with rooms `a`, `b`, `c` and landmarks with these names; some reach out of the yard."""
     width, height = draw.randint(2, most), draw.randint(1, most - 1)
 
     def box(reach):
@@ -15,7 +15,7 @@ def drawn_site(draw, most=5, blurs=(0, 0, 1)):
         return (x, y), (x + draw.randint(0, reach), y + draw.randint(0, reach))
 
     rooms = [Room(name, *box(2), draw.random() < 0.2) for name in "abc"]
-    marks = [Mark(name, *box(most), draw.choice(blurs)) for name in "lm"]
+    marks = [Mark(name, *box(most), draw.choice(blurs)) for name in names]
     slips = draw.choice([(0, 0, 0), (0, 0, 0), (0, 1, 0), (1, 0, 0), (0, 0, 1), (1, 1, 0), (1, 1, 1)])
     return Site((width, height), slips, rooms, marks)
 
@@ -52,5 +52,5 @@ def drawn_part(draw, site, depth):
     if kind == "v":
         return [While(test, [go] + drawn_rows(draw, site, depth - 1) + [back])]
     if kind == "m":
-        return [See(draw.choice("lm"), drawn_rows(draw, site, depth - 1), drawn_rows(draw, site, depth - 1))]
+        return [See(draw.choice(site.marks).name, drawn_rows(draw, site, depth - 1), drawn_rows(draw, site, depth - 1))]
     return [Stop(draw.choice("abc")) if kind == "s" else go]

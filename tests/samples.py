@@ -1,7 +1,9 @@
 """Values that several tests pass where the document says "any value"."""
 
 from slipsights.cells import Cells
+from slipsights.desk import Desk
 from slipsights.plans import Go, If, Plan, See, Stop, While
+from slipsights.robots import Robot
 from slipsights.runs import play
 from slipsights.sites import Mark, Room, Site
 from slipsights.spans import Span
@@ -44,7 +46,7 @@ def objects():
     return [
         site, site.rooms[0], site.marks[0], go, If("x < 5", []), While("x < 5", [go]), See("lamp", []),
         Stop("hall"), plan, play(site, plan, []), Span((0, 1), (0, 1), (0, 1)), Span((1, 0), (0, 1), (0, 1)),
-        Cells(), Cells([(0, 0)]),
+        Cells(), Cells([(0, 0)]), Robot(site, plan), Robot(site, plan).trial(), Desk(),
     ]
 
 

@@ -11,8 +11,8 @@ AHEAD = {"east": (1, 0), "north": (0, 1), "west": (-1, 0), "south": (0, -1)}
 class Search:
     """A standing is a tuple (row, done, belief, place); an end is a tuple (word, belief, place)."""
 
-    def __init__(self, site, plan):
-        self.site, self.plan = site, plan
+    def __init__(self, site, plan, left_out=()):
+        self.site, self.plan, self.left_out = site, plan, left_out
         self.rows, self.inner, self.todo = [], [], {}
         top = self.number(plan.rows)
         self.link(top, ())
@@ -47,6 +47,10 @@ class Search:
     def mark(self, name):
         return [mark for mark in self.site.marks if mark.name == name][0]
 
+    def sees(self, name, place):
+        """Whether a landmark is seen from a place; those that are left out never are."""
+        return name not in self.left_out and box_has(self.mark(name), place)
+
     def go(self, todo, belief, place):
         """Where a run waits or ends that has these rows to do."""
         while todo:
@@ -57,7 +61,7 @@ class Search:
             if isinstance(row, Go):
                 return self.at_step(number, 0, belief, place)
             if isinstance(row, See):
-                if box_has(self.mark(row.mark), place):
+                if self.sees(row.mark, place):
                     return (number, 0, belief, place)
                 todo = self.inner[number][1] + todo
             elif isinstance(row, If):
@@ -119,7 +123,7 @@ class Search:
         if isinstance(row, Go):
             now = self.at_step(number, done, belief, place)
             return [now] if is_end(now) else list(self.behind(standing).values())
-        if not box_has(self.mark(row.mark), place):
+        if not self.sees(row.mark, place):
             return [self.go(self.inner[number][1] + self.todo[number], belief, place)]
         return list(self.behind(standing).values())
 
@@ -134,8 +138,8 @@ class Search:
 class Everything:
     """All that can be reached: the number of pairs at which each standing, end and fault comes first."""
 
-    def __init__(self, site, plan):
-        self.search = Search(site, plan)
+    def __init__(self, site, plan, left_out=()):
+        self.search = Search(site, plan, left_out)
         self.depth, self.ends, self.faults = {}, {}, {}
         self.edges = {None: self.search.begin()}
         wave, pairs = [None], 0
@@ -170,6 +174,10 @@ class Everything:
                 return length[None]
             length = longer
         return None
+
+    def comes(self, fault):
+        """Whether some run has the fault."""
+        return self.longest() is None if fault == "endless" else fault in self.faults
 
     def errors(self, at):
         """The ranges of the errors at a row, as `drift` tells them."""

@@ -1,4 +1,4 @@
-"""The examples of the document for the modules that there are, with the site and the plans of section 1."""
+"""The examples of the document, with the site and the plans of section 1."""
 
 import doctest
 import pathlib
@@ -7,7 +7,9 @@ import unittest
 from slipsights.cells import ends
 from slipsights.certificates import certificate, certificate_holds
 from slipsights.deciding import longest, never, shortest
+from slipsights.desk import Desk
 from slipsights.plans import Plan
+from slipsights.robots import Robot
 from slipsights.runs import play
 from slipsights.sites import Site
 from slipsights.spans import Span
@@ -72,6 +74,27 @@ class TestExamples(unittest.TestCase):
             (True, False, None),
         )
         self.assertEqual(play(self.site, east, [(0, 0), (1, 0)]).done, 1)
+
+    def test_section_13(self):
+        robot = Robot(self.site, self.seeing)
+        self.assertEqual(
+            (robot.step(), robot.row, robot.miss(), robot.step(), str(robot.cells())), (None, 2, None, None, "2.0 3.0 4.0"),
+        )
+        self.assertEqual(
+            (robot.sight((3, 0)), robot.belief, str(robot.cells()), robot.row, robot.may("astray")),
+            (None, (3, 0), "3.0", 1, False),
+        )
+
+    def test_section_14(self):
+        desk = Desk()
+        commands = [
+            "site yard 8 1 ; slip 0 1 0 ; room goal 4 0 6 0", "plan start 0 0 0 ; go east 4 ; stop goal", "never barred",
+            "ends goal", "widest ahead barred", "longest", "undo",
+        ]
+        self.assertEqual(
+            [desk.say(command) for command in commands], ["1", "2", "no 5", "4.0 5.0 6.0 7.0", "0", "5", "undone"],
+        )
+        self.assertIsNone(desk.plan)
 
     def test_readme(self):
         readme = pathlib.Path(__file__).parent.parent / "README.md"

@@ -6,7 +6,7 @@ import pathlib
 import unittest
 
 import slipsights
-from slipsights import cells, certificates, deciding, errors, plans, runs, sites, spans
+from slipsights import alike, bearing, cells, certificates, deciding, desk, errors, plans, robots, runs, sites, spans
 
 CLASSES = {
     sites.Room: ("name low high barred", "__contains__ __eq__"),
@@ -26,6 +26,8 @@ CLASSES = {
         "cells", "members grown __contains__ __len__ __bool__ __and__ __or__ __sub__ __xor__ __le__ __lt__ __ge__ "
         "__gt__ __eq__ __str__",
     ),
+    robots.Robot: ("site plan", "cells step sight miss may undo trial within __len__"),
+    desk.Desk: ("", "say __len__"),
 }
 PROPERTIES = {spans.Span: ["total"], cells.Cells: ["members"]}
 DEFAULTS = {
@@ -40,19 +42,27 @@ CALLS = {
     deciding.shortest: "site plan fault", deciding.longest: "site plan", deciding.drift: "site plan at",
     deciding.endless: "site plan", cells.ends: "site plan word", cells.stands: "site plan at",
     certificates.certificate: "site plan fault", certificates.certificate_holds: "site plan fault value",
+    bearing.widest: "site plan faults slip", bearing.fewest_marks: "site plan faults", alike.alike: "site p q",
+    alike.parting: "site p q", alike.needless: "site plan", robots.Robot.cells: "self", robots.Robot.step: "self",
+    robots.Robot.sight: "self belief", robots.Robot.miss: "self", robots.Robot.may: "self fault",
+    robots.Robot.undo: "self", robots.Robot.trial: "self", robots.Robot.within: "self work",
+    desk.Desk.say: "self command",
 }
 MODULES = {
     sites: "Room Mark Site", plans: "Row Go If While See Stop Plan", runs: "Played play", spans: "Span",
     deciding: "never shortest longest drift endless", cells: "Cells ends stands",
-    certificates: "certificate certificate_holds",
+    certificates: "certificate certificate_holds", bearing: "widest fewest_marks", alike: "alike parting needless",
+    robots: "Robot", desk: "Desk",
 }
+# Attributes that are not the arguments.
+ATTRIBUTES = {robots.Robot: "belief row done ended", desk.Desk: "site plan"}
 
 
 class TestInterface(unittest.TestCase):
     def test_parameters_of_classes(self):
         for kind, (names, _) in CLASSES.items():
             parameters = inspect.signature(kind).parameters
-            self.assertEqual(list(parameters), names.split(" "), kind)
+            self.assertEqual(list(parameters), names.split(), kind)
             defaults = {name: one.default for name, one in parameters.items() if one.default is not one.empty}
             self.assertEqual(defaults, DEFAULTS.get(kind, {}), kind)
 
@@ -82,11 +92,11 @@ class TestInterface(unittest.TestCase):
         made = [
             site, site.rooms[0], site.marks[0], go, plans.If("x < 1", []), plans.While("x < 1", [go]),
             plans.See("a", []), plans.Stop("a"), plan, spans.Span((0, 0), (0, 0), (0, 0)),
-            spans.Span((1, 0), (0, 0), (0, 0)),
+            spans.Span((1, 0), (0, 0), (0, 0)), robots.Robot(site, plan), desk.Desk(),
         ]
         self.assertEqual({type(one) for one in made}, set(CLASSES) - {cells.Cells})
         for one in made:
-            for name in CLASSES[type(one)][0].split(" "):
+            for name in ATTRIBUTES.get(type(one), CLASSES[type(one)][0]).split(" "):
                 self.assertIn(name, vars(one))
         for name in "ended row done belief place trail faults".split(" "):
             self.assertIn(name, vars(runs.play(site, plan, [])))

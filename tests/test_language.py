@@ -221,11 +221,28 @@ class TestCode(unittest.TestCase):
 
     def test_l5_operators_change_nothing(self):
         for name, node in nodes():
-            if isinstance(node, ast.FunctionDef) and node.name.startswith("__") and node.name != "__init__":
+            no_operators = ("__init__", "__enter__", "__exit__")
+            if isinstance(node, ast.FunctionDef) and node.name.startswith("__") and node.name not in no_operators:
                 for inner in ast.walk(node):
                     is_stored = isinstance(getattr(inner, "ctx", None), (ast.Store, ast.Del))
                     self.assertFalse(is_stored and not isinstance(inner, (ast.Name, ast.Tuple)), (name, node.name))
                     self.assertNotIsInstance(inner, ast.AugAssign, (name, node.name))
+
+    def test_l6_exit_only_assigns(self):
+        for name, node in nodes():
+            if isinstance(node, ast.FunctionDef) and node.name == "__exit__":
+                self.assertEqual(len(node.args.args), 4, name)
+                for row in node.body:
+                    self.assertIsInstance(row, ast.Assign, (name, row.lineno))
+                    self.assertIsInstance(row.targets[0], (ast.Name, ast.Attribute), (name, row.lineno))
+                    self.assertIsInstance(row.value, (ast.Name, ast.Attribute), (name, row.lineno))
+
+    def test_l6_with_over_calls_of_own_classes(self):
+        own = {node.name for _, node in nodes() if isinstance(node, ast.ClassDef)}
+        for name, node in nodes():
+            if isinstance(node, ast.With):
+                for one in node.items:
+                    self.assertIn(called(one.context_expr), own, (name, node.lineno))
 
     def test_l7_stars_in_calls(self):
         for place, node, parent in nodes_with_parents():

@@ -3,10 +3,15 @@
 import time
 import unittest
 
+from slipsights.alike import alike, needless, parting
+from slipsights.bearing import SLIPS, fewest_marks, widest
 from slipsights.cells import Cells, ends, stands
 from slipsights.certificates import certificate, certificate_holds
 from slipsights.deciding import drift, endless, longest, never, shortest
+from slipsights.desk import Desk
+from slipsights.errors import Refused
 from slipsights.plans import Plan
+from slipsights.robots import Robot
 from slipsights.runs import play
 from slipsights.sites import Site
 from slipsights.spans import Span
@@ -137,6 +142,123 @@ class TestGreatCertificates(LimitCase):
         paper = self.timed(certificate, site, plan, "astray")
         for k in range(0, len(paper), len(paper) // 5 + 1):
             self.timed(certificate_holds, site, plan, "astray", paper[:k] + paper[k + 1:])
+
+
+class TestGreatBearing(LimitCase):
+    """Yards of 60 cells, and of 24 ones for runs that never end; plans of 7 rows."""
+
+    ROWS = (
+        "while x < 99 ; go east 9 ; see lamp ; go west 9 ; end ; see sun ; go east 9 ; go west 9 ; end ; end",
+        "while x < 99 ; go east 1 ; while y < 5 ; go north 1 ; see lamp ; end ; see moon ; go south 5 ; end ; end ; end",
+        "see lamp ; see sun ; see moon ; go west 4 ; stop d ; end ; end ; end ; go east 9 ; stop d",
+        "see lamp ; while x < 3 ; go east 1 ; go west 1 ; end ; else ; go east 1 ; go west 1 ; go north 1 ; end",
+    )
+    ROUNDS = (
+        "while x < 99 ; go east 4 ; go west 4 ; see lamp ; go west 4 ; else ; go east 4 ; end ; go west 4 ; end",
+        "while x < 99 ; go east 1 ; while y < 5 ; go north 1 ; see lamp ; end ; see moon ; go south 4 ; end ; end ; end",
+        "see lamp ; see sun ; while x < 9 ; go east 4 ; go west 4 ; end ; end ; end ; go east 4 ; stop d",
+    )
+
+    def bears(self, site, plan, faults):
+        for slip in SLIPS:
+            most = self.timed(widest, site, plan, faults, slip)
+            for single in faults:
+                alone = self.timed(widest, site, plan, [single], slip)
+                self.assertTrue(most is None or most <= alone)
+        names = self.timed(fewest_marks, site, plan, faults)
+        self.assertTrue(names is None or len(names) <= 3)
+        numbers = self.timed(needless, site, plan)
+        self.assertLessEqual(len(numbers), 7)
+
+    def test_yards_of_60_cells(self):
+        for width, height in [(60, 1), (12, 5), (8, 7)]:
+            marks = f" ; mark lamp 0 0 {width} {height} 3 ; mark sun 3 0 9 3 1 ; mark moon 0 0 9 0 0"
+            for slips in ("3 3 3", "1 1 1", "0 1 0"):
+                site = site_of(f"yard {width} {height} ; slip {slips} ; barred a 5 0 5 0 ; room d 2 0 9 9" + marks)
+                for rows in self.ROWS:
+                    self.bears(site, plan_of("start 1 0 3 ; " + rows), FAULTS)
+
+    def test_runs_that_never_end(self):
+        for width, height in [(24, 1), (8, 3), (6, 4)]:
+            marks = f" ; mark lamp 0 0 {width} {height} 1 ; mark sun 3 0 9 3 1 ; mark moon 0 0 9 0 0"
+            for slips in ("1 1 1", "0 1 0"):
+                site = site_of(f"yard {width} {height} ; slip {slips} ; room d 2 0 9 9" + marks)
+                for rows in self.ROUNDS:
+                    self.bears(site, plan_of("start 1 0 1 ; " + rows), FAULTS + ("endless",))
+
+
+class TestGreatPlansApart(LimitCase):
+    def test_two_great_plans(self):
+        site = site_of("yard 60 40 ; slip 1 0 0" + BARRED + MARKS)
+        for one, other in [(SLOW, SLOW), (SLOW, SLOW.replace("go west 7", "go west 6")), (FAR, ROUND)]:
+            p, q = plan_of(one), plan_of(other)
+            apart = self.timed(parting, site, p, q)
+            self.assertIs(self.timed(alike, site, q, p), apart is None)
+            self.assertTrue(p != q or apart is None)
+
+
+class TestGreatRobots(LimitCase):
+    def test_40_deeds(self):
+        lengths = []
+        for slips in ("3 3 3", "1 1 1", "1 0 0"):
+            site = site_of(f"yard 60 40 ; slip {slips}" + BARRED + MARKS)
+            for rows in (ROUND, SLOW, FAR):
+                robot = Robot(site, plan_of(rows))
+                while len(robot) < 40 and self.goes_on(robot):
+                    if len(robot) % 16 == 1:
+                        self.ask(robot)
+                self.ask(robot)
+                many = len(robot)
+                lengths.append(many)
+                self.assertEqual(robot.within(lambda one: (one.undo(), len(one))), (True, many - 1))
+                self.assertEqual(len(robot), many)
+        self.assertGreater(lengths.count(40), 5, lengths)
+
+    def ask(self, robot):
+        self.assertGreater(len(self.timed(robot.cells)), 0)
+        for fault in FAULTS:
+            self.timed(robot.may, fault)
+
+    def goes_on(self, robot):
+        """Do some deed that does not end the robot; return whether there is one."""
+        cells = self.timed(robot.cells).members
+        beliefs = [cells[at * (len(cells) - 1) // 4] for at in (2, 1, 3, 0, 4)]
+        for deed, arguments in [(robot.step, ()), (robot.miss, ())] + [(robot.sight, (one,)) for one in beliefs]:
+            try:
+                self.timed(deed, *arguments)
+            except Refused:
+                continue
+            if robot.ended is None:
+                return True
+            robot.undo()
+        return False
+
+    def test_runs_that_never_end(self):
+        site = site_of("yard 8 3 ; slip 1 1 1 ; mark lamp 0 0 7 2 1")
+        rows = "while x < 99 ; go east 4 ; go west 4 ; see lamp ; go west 1 ; end ; go east 1 ; go west 1 ; end"
+        robot = Robot(site, plan_of("start 1 0 1 ; " + rows))
+        self.assertIs(self.timed(robot.may, "endless"), True)
+        robot.step()
+        self.assertIs(self.timed(robot.may, "endless"), True)
+
+
+class TestGreatDesks(LimitCase):
+    def test_great_sites_and_plans(self):
+        desk = Desk()
+        desk.say("site yard 60 40 ; slip 1 0 0" + BARRED + MARKS)
+        desk.say("plan " + SLOW)
+        self.assertEqual(self.timed(desk.say, "never barred"), "no 9")
+        self.timed(desk.say, "ends barred")
+        desk.say("site yard 12 5 ; slip 1 1 1 ; room d 0 0 5 5" + MARKS)
+        for rows in TestGreatBearing.ROWS:
+            desk.say("plan start 1 0 3 ; " + rows)
+            for command in ("widest side barred", "widest ahead halted", "marks barred", "marks astray", "ends end"):
+                self.timed(desk.say, command)
+        desk.say("site yard 6 4 ; slip 1 1 1 ; room d 0 0 5 5 ; mark lamp 0 0 5 3 1 ; mark sun 0 0 5 3 0 ; mark moon 0 0 1 1 1")
+        for rows in TestGreatBearing.ROUNDS:
+            desk.say("plan start 1 0 1 ; " + rows)
+            for command in ("widest side endless", "longest", "marks endless", "never endless"):
+                self.timed(desk.say, command)
 
 
 class TestGreatSets(LimitCase):
